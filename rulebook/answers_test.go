@@ -1,0 +1,104 @@
+package rulebook_test
+
+import (
+	"fmt"
+	"strings"
+	"testing"
+
+	"rulebook/rulebook"
+)
+
+// answers tells in one text what the calls that are built answer to a program.
+func answers(program string) string {
+	e, at := rulebook.Check(program)
+	text, printE := rulebook.Print(program)
+	out := fmt.Sprint(e, at, text, printE)
+	for item := -1; item <= 17; item++ {
+		n, stratumE := rulebook.Stratum(program, item)
+		out += fmt.Sprint(n, stratumE)
+		if stratumE != rulebook.OK && n != 0 {
+			out += "a number with an error"
+		}
+	}
+	return out
+}
+
+// TestLongStrings is P1's word of strings of any length: they are refused by their length, so nothing is made on the way.
+func TestLongStrings(t *testing.T) {
+	for _, n := range []int{601, 5000, 50000000} {
+		for _, part := range []string{"?p.", "(", "\xff", "p(A):-p(A).", "0"} {
+			program := strings.Repeat(part, n/len(part)+1)
+			wantCheck(t, program, rulebook.ErrLong, 0)
+			wantPrint(t, program, "", rulebook.ErrLong)
+			wantStratum(t, program, 0, 0, rulebook.ErrLong)
+			made := testing.AllocsPerRun(5, func() { rulebook.Check(program) })
+			if made != 0 {
+				t.Errorf("Check of %d bytes makes %v things ahead of its answer", len(program), made)
+			}
+		}
+	}
+}
+
+// TestSameErrors is P1's rule that with an error each other result is empty, at a program of each error.
+func TestSameErrors(t *testing.T) {
+	for _, program := range []string{strings.Repeat("?p.", 201), "#", "p(1).p(1,2).", "p(A).", "p(1):-!p(1).", ".", "\x00"} {
+		e, _ := rulebook.Check(program)
+		if e == rulebook.OK {
+			t.Errorf("Check(%.40q) = OK", program)
+		}
+		wantPrint(t, program, "", e)
+		for item := -2; item < 20; item++ {
+			wantStratum(t, program, item, 0, e)
+		}
+	}
+}
+
+// TestEveryCut calls on every part of a program, which are texts that begin and end anywhere.
+func TestEveryCut(t *testing.T) {
+	whole := "n(A,12):-v(A),!p(A,0).p(A,B):-e(A,B),!f(B).?n."
+	for from := 0; from <= len(whole); from++ {
+		for to := from; to <= len(whole); to++ {
+			text := whole[from:to]
+			e, at := rulebook.Check(text)
+			if at < 0 || at > len(text) || e < rulebook.OK || e > rulebook.ErrNot {
+				t.Errorf("Check(%q) = %d, %d", text, e, at)
+			}
+			if strings.Contains(answers(text), "a number") {
+				t.Errorf("Stratum of %q tells a number with an error", text)
+			}
+		}
+	}
+}
+
+// TestNothingIsKept is P2: the answers are the same whatever was asked before, in whatever order.
+func TestNothingIsKept(t *testing.T) {
+	programs := []string{
+		"", way, "?p.", "n(A):-v(A),!p(A).p(A):-e(A,B).?n.", "p(Z):-e(Z,Y).", "e(1).p(A):-e(A).", "e(1,2).p(A):-e(A,A).",
+		"p(A).", "p(1):-!p(1).", "p", "p(1).p(1,2).", strings.Repeat("?p.", 16), strings.Repeat("?p.", 17), ofLength(t, 600),
+		ofLength(t, 601),
+	}
+	first := []string{}
+	for _, p := range programs {
+		first = append(first, answers(p))
+	}
+	for i := range programs {
+		for j := range programs {
+			answers(programs[j])
+			if answers(programs[i]) != first[i] {
+				t.Errorf("the answers to %.60q change behind those to %.60q", programs[i], programs[j])
+			}
+		}
+	}
+}
+
+// TestErrorNumbers holds the names of the errors against their numbers in the document.
+func TestErrorNumbers(t *testing.T) {
+	for i, e := range []rulebook.Errno{
+		rulebook.OK, rulebook.ErrLong, rulebook.ErrForm, rulebook.ErrTerms, rulebook.ErrUnsafe, rulebook.ErrNot,
+		rulebook.ErrArg, rulebook.ErrFacts, rulebook.ErrRuled, rulebook.ErrMany, rulebook.ErrNeeded, rulebook.ErrPasses,
+	} {
+		if int(e) != i {
+			t.Errorf("error %d has the number %d", i, e)
+		}
+	}
+}

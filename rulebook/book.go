@@ -1,0 +1,53 @@
+package rulebook
+
+const (
+	maxText   = 600
+	maxItems  = 16
+	maxBody   = 5
+	maxTerms  = 3
+	maxName   = 6
+	maxDigits = 3
+)
+
+// A term is a variable, with the place of its letter in the alphabet as its value, or a number.
+type term struct {
+	variable bool
+	value    int
+}
+
+// An atom has its predicate as a place in the names of its book, so that what is told of predicates can be kept in slices.
+type atom struct {
+	predicate int
+	terms     []term
+}
+
+type literal struct {
+	negated bool
+	atom    atom
+}
+
+// An item is a rule or an output. The head of an output is its predicate, without terms.
+type item struct {
+	output bool
+	head   atom
+	body   []literal
+}
+
+// A book is a program that has been read.
+type book struct {
+	names []string
+	items []item
+}
+
+// atoms lists the atoms of a rule from left to right. An output has none.
+func (it item) atoms() []atom {
+	atoms := []atom{}
+	if it.output {
+		return atoms
+	}
+	atoms = append(atoms, it.head)
+	for _, l := range it.body {
+		atoms = append(atoms, l.atom)
+	}
+	return atoms
+}

@@ -1,0 +1,60 @@
+// Package rulebook: programs of rules, what follows from them, and how they are made smaller: see DOC.md.
+package rulebook
+
+// Errno is what a call answers: OK or the reason for a refusal.
+type Errno int
+
+const (
+	OK        Errno = 0
+	ErrLong   Errno = 1  // a string above its bound
+	ErrForm   Errno = 2  // no program
+	ErrTerms  Errno = 3  // a predicate with different numbers of terms
+	ErrUnsafe Errno = 4  // a rule that is not safe
+	ErrNot    Errno = 5  // a predicate that hangs on its own not being so
+	ErrArg    Errno = 6  // a number that may not be
+	ErrFacts  Errno = 7  // no facts
+	ErrRuled  Errno = 8  // a fact of a predicate that rules derive
+	ErrMany   Errno = 9  // more tuples than may be
+	ErrNeeded Errno = 10 // a literal that is not spare
+	ErrPasses Errno = 11 // no passes
+)
+
+// Check tells whether a text is a right program (P3).
+func Check(program string) (Errno, int) {
+	_, e, at := load(program)
+	return e, at
+}
+
+// Print tells a program with its variables named in order (P4).
+func Print(program string) (string, Errno) {
+	b, e, _ := load(program)
+	if e != OK {
+		return "", e
+	}
+	return b.text(), OK
+}
+
+// Stratum tells the stratum of an item's predicate (P5).
+func Stratum(program string, item int) (int, Errno) {
+	b, e, _ := load(program)
+	if e != OK {
+		return 0, e
+	}
+	if item < 0 || item >= len(b.items) {
+		return 0, ErrArg
+	}
+	strata := b.strata()
+	return strata[b.items[item].head.predicate], OK
+}
+
+// Run tells what follows from a program and facts (P6).
+func Run(program string, facts string, budget int) (string, int, Errno) { return "", 0, OK }
+
+// Spare tells why a literal may be left out (P7).
+func Spare(program string, item int, literal int) (string, Errno) { return "", OK }
+
+// Implied tells whether a rule may be left out (P8).
+func Implied(program string, item int) (bool, Errno) { return false, OK }
+
+// Optimise makes passes over a program (P9 to P11).
+func Optimise(program string, passes string, budget int) (string, int, Errno) { return "", 0, OK }
