@@ -20,6 +20,15 @@ func answers(program string) string {
 			out += "a number with an error"
 		}
 	}
+	for _, facts := range []string{"", "e(1,2).e(2,3).", "v(2).v(1).", "p(1).", "e"} {
+		for _, budget := range []int{-1, 0, 5, 200, 201} {
+			told, n, runE := rulebook.Run(program, facts, budget)
+			out += fmt.Sprint(told, n, runE)
+			if runE != rulebook.OK && (told != "" || n != 0) {
+				out += "a number with an error"
+			}
+		}
+	}
 	return out
 }
 
@@ -31,9 +40,16 @@ func TestLongStrings(t *testing.T) {
 			wantCheck(t, program, rulebook.ErrLong, 0)
 			wantPrint(t, program, "", rulebook.ErrLong)
 			wantStratum(t, program, 0, 0, rulebook.ErrLong)
-			made := testing.AllocsPerRun(5, func() { rulebook.Check(program) })
+			wantRunError(t, program, "", 0, rulebook.ErrLong)
+			wantRunError(t, way, program, 0, rulebook.ErrLong)
+			wantRunError(t, program, program, -1, rulebook.ErrLong)
+			made := testing.AllocsPerRun(5, func() {
+				rulebook.Check(program)
+				rulebook.Run(program, "", 0)
+				rulebook.Run(way, program, 0)
+			})
 			if made != 0 {
-				t.Errorf("Check of %d bytes makes %v things ahead of its answer", len(program), made)
+				t.Errorf("calls with %d bytes make %v things ahead of their answer", len(program), made)
 			}
 		}
 	}
@@ -49,6 +65,7 @@ func TestSameErrors(t *testing.T) {
 		wantPrint(t, program, "", e)
 		for item := -2; item < 20; item++ {
 			wantStratum(t, program, item, 0, e)
+			wantRunError(t, program, "", item, e)
 		}
 	}
 }
@@ -64,7 +81,7 @@ func TestEveryCut(t *testing.T) {
 				t.Errorf("Check(%q) = %d, %d", text, e, at)
 			}
 			if strings.Contains(answers(text), "a number") {
-				t.Errorf("Stratum of %q tells a number with an error", text)
+				t.Errorf("Stratum or Run of %q tells a result with an error", text)
 			}
 		}
 	}

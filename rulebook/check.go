@@ -85,13 +85,16 @@ func (it item) binds(variable int) bool {
 	return false
 }
 
-func (a atom) has(variable int) bool {
-	for _, t := range a.terms {
+func (a atom) has(variable int) bool { return a.place(variable) != none }
+
+// place tells which term of an atom is the first to be a variable.
+func (a atom) place(variable int) int {
+	for i, t := range a.terms {
 		if t.variable && t.value == variable {
-			return true
+			return i
 		}
 	}
-	return false
+	return none
 }
 
 // firstNot finds the first rule with a negated literal whose predicate is that of the head, or uses it.

@@ -24,9 +24,11 @@ func (it item) inOrder() item {
 }
 
 // variables lists the variables of an item, each once, in the order in which they first stand there.
-func (it item) variables() []int {
+func (it item) variables() []int { return variablesOf(it.atoms()) }
+
+func variablesOf(atoms []atom) []int {
 	order := []int{}
-	for _, a := range it.atoms() {
+	for _, a := range atoms {
 		for _, t := range a.terms {
 			if t.variable && placeOf(t.value, order) == none {
 				order = append(order, t.value)

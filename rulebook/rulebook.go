@@ -48,7 +48,28 @@ func Stratum(program string, item int) (int, Errno) {
 }
 
 // Run tells what follows from a program and facts (P6).
-func Run(program string, facts string, budget int) (string, int, Errno) { return "", 0, OK }
+func Run(program string, facts string, budget int) (string, int, Errno) {
+	if len(program) > maxText || len(facts) > maxFacts {
+		return "", 0, ErrLong
+	}
+	b, e, _ := load(program)
+	if e != OK {
+		return "", 0, e
+	}
+	if budget < 0 || budget > maxTuples {
+		return "", 0, ErrArg
+	}
+	given, predicates, e := b.loadFacts(facts)
+	if e != OK {
+		return "", 0, e
+	}
+	m := newModel(predicates, given, budget)
+	m.follow(b)
+	if m.over() {
+		return "", 0, ErrMany
+	}
+	return m.text(b), m.derived, OK
+}
 
 // Spare tells why a literal may be left out (P7).
 func Spare(program string, item int, literal int) (string, Errno) { return "", OK }
