@@ -17,15 +17,36 @@ func answers(program string) string {
 		n, stratumE := rulebook.Stratum(program, item)
 		out += fmt.Sprint(n, stratumE)
 		if stratumE != rulebook.OK && n != 0 {
-			out += "a number with an error"
+			out += "a result with an error"
 		}
 	}
+	out += leavings(program)
 	for _, facts := range []string{"", "e(1,2).e(2,3).", "v(2).v(1).", "p(1).", "e"} {
 		for _, budget := range []int{-1, 0, 5, 200, 201} {
 			told, n, runE := rulebook.Run(program, facts, budget)
 			out += fmt.Sprint(told, n, runE)
 			if runE != rulebook.OK && (told != "" || n != 0) {
-				out += "a number with an error"
+				out += "a result with an error"
+			}
+		}
+	}
+	return out
+}
+
+// leavings tells what Spare and Implied answer to a program.
+func leavings(program string) string {
+	out := ""
+	for item := -1; item <= 17; item++ {
+		yes, impliedE := rulebook.Implied(program, item)
+		out += fmt.Sprint(yes, impliedE)
+		if impliedE != rulebook.OK && yes {
+			out += "a result with an error"
+		}
+		for literal := -1; literal <= 6; literal++ {
+			text, spareE := rulebook.Spare(program, item, literal)
+			out += fmt.Sprint(text, spareE)
+			if spareE != rulebook.OK && text != "" {
+				out += "a result with an error"
 			}
 		}
 	}
@@ -43,10 +64,14 @@ func TestLongStrings(t *testing.T) {
 			wantRunError(t, program, "", 0, rulebook.ErrLong)
 			wantRunError(t, way, program, 0, rulebook.ErrLong)
 			wantRunError(t, program, program, -1, rulebook.ErrLong)
+			wantSpare(t, program, -1, -1, "", rulebook.ErrLong)
+			wantImpliedError(t, program, -1, rulebook.ErrLong)
 			made := testing.AllocsPerRun(5, func() {
 				rulebook.Check(program)
 				rulebook.Run(program, "", 0)
 				rulebook.Run(way, program, 0)
+				rulebook.Spare(program, 0, 0)
+				rulebook.Implied(program, 0)
 			})
 			if made != 0 {
 				t.Errorf("calls with %d bytes make %v things ahead of their answer", len(program), made)
@@ -66,6 +91,8 @@ func TestSameErrors(t *testing.T) {
 		for item := -2; item < 20; item++ {
 			wantStratum(t, program, item, 0, e)
 			wantRunError(t, program, "", item, e)
+			wantSpare(t, program, item, item, "", e)
+			wantImpliedError(t, program, item, e)
 		}
 	}
 }
@@ -80,8 +107,8 @@ func TestEveryCut(t *testing.T) {
 			if at < 0 || at > len(text) || e < rulebook.OK || e > rulebook.ErrNot {
 				t.Errorf("Check(%q) = %d, %d", text, e, at)
 			}
-			if strings.Contains(answers(text), "a number") {
-				t.Errorf("Stratum or Run of %q tells a result with an error", text)
+			if strings.Contains(answers(text), "a result") {
+				t.Errorf("a call with %q tells a result with an error", text)
 			}
 		}
 	}
@@ -91,7 +118,7 @@ func TestEveryCut(t *testing.T) {
 func TestNothingIsKept(t *testing.T) {
 	programs := []string{
 		"", way, "?p.", "n(A):-v(A),!p(A).p(A):-e(A,B).?n.", "p(Z):-e(Z,Y).", "e(1).p(A):-e(A).", "e(1,2).p(A):-e(A,A).",
-		"p(A).", "p(1):-!p(1).", "p", "p(1).p(1,2).", strings.Repeat("?p.", 16), strings.Repeat("?p.", 17), ofLength(t, 600),
+		"p(X):-e(X,Z),e(X,Y),!f(X).p(A):-e(A,1).?p.", "p(A).", "p(1):-!p(1).", "p", "p(1).p(1,2).", strings.Repeat("?p.", 16), strings.Repeat("?p.", 17), ofLength(t, 600),
 		ofLength(t, 601),
 	}
 	first := []string{}

@@ -7,6 +7,7 @@ const (
 	maxTerms  = 3
 	maxName   = 6
 	maxDigits = 3
+	letters   = 26
 )
 
 // A term is a variable, with the place of its letter in the alphabet as its value, or a number.
@@ -37,6 +38,11 @@ type item struct {
 type book struct {
 	names []string
 	items []item
+}
+
+// hasRule tells whether there is an item of this number that is a rule.
+func (b book) hasRule(number int) bool {
+	return number >= 0 && number < len(b.items) && !b.items[number].output
 }
 
 // atoms lists the atoms of a rule from left to right. An output has none.

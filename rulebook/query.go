@@ -1,7 +1,9 @@
 package rulebook
 
-// numbers is how many numbers there are: those of up to maxDigits digits.
-const numbers = 1000
+const (
+	fresh   = 1000            // the first number of more than maxDigits digits: it stands in no text
+	numbers = fresh + letters // those of the texts, and one for each variable of a rule
+)
 
 // A part is a literal that is not negated, with the tuples that it may still become.
 type part struct {

@@ -72,10 +72,33 @@ func Run(program string, facts string, budget int) (string, int, Errno) {
 }
 
 // Spare tells why a literal may be left out (P7).
-func Spare(program string, item int, literal int) (string, Errno) { return "", OK }
+func Spare(program string, item int, literal int) (string, Errno) {
+	b, e, _ := load(program)
+	if e != OK {
+		return "", e
+	}
+	if !b.hasRule(item) || literal < 0 || literal >= len(b.items[item].body) {
+		return "", ErrArg
+	}
+	rule := b.items[item].inOrder()
+	put, ok := rule.spare(literal)
+	if !ok {
+		return "", ErrNeeded
+	}
+	return put.text(len(rule.variables())), OK
+}
 
 // Implied tells whether a rule may be left out (P8).
-func Implied(program string, item int) (bool, Errno) { return false, OK }
+func Implied(program string, item int) (bool, Errno) {
+	b, e, _ := load(program)
+	if e != OK {
+		return false, e
+	}
+	if !b.hasRule(item) {
+		return false, ErrArg
+	}
+	return b.implied(item), OK
+}
 
 // Optimise makes passes over a program (P9 to P11).
 func Optimise(program string, passes string, budget int) (string, int, Errno) { return "", 0, OK }
