@@ -21,6 +21,7 @@ func answers(program string) string {
 		}
 	}
 	out += leavings(program)
+	out += optimisings(program)
 	for _, facts := range []string{"", "e(1,2).e(2,3).", "v(2).v(1).", "p(1).", "e"} {
 		for _, budget := range []int{-1, 0, 5, 200, 201} {
 			told, n, runE := rulebook.Run(program, facts, budget)
@@ -53,6 +54,21 @@ func leavings(program string) string {
 	return out
 }
 
+// optimisings tells what Optimise answers to a program.
+func optimisings(program string) string {
+	out := ""
+	for _, passes := range []string{"", "s", "a", "r", "sarulsar", "sarulsars", "x"} {
+		for _, budget := range []int{-1, 0, 1, 9} {
+			text, n, e := rulebook.Optimise(program, passes, budget)
+			out += fmt.Sprint(text, n, e)
+			if e != rulebook.OK && (text != "" || n != 0) {
+				out += "a result with an error"
+			}
+		}
+	}
+	return out
+}
+
 // TestLongStrings is P1's word of strings of any length: they are refused by their length, so nothing is made on the way.
 func TestLongStrings(t *testing.T) {
 	for _, n := range []int{601, 5000, 50000000} {
@@ -66,12 +82,16 @@ func TestLongStrings(t *testing.T) {
 			wantRunError(t, program, program, -1, rulebook.ErrLong)
 			wantSpare(t, program, -1, -1, "", rulebook.ErrLong)
 			wantImpliedError(t, program, -1, rulebook.ErrLong)
+			wantOptimiseError(t, program, program, -1, rulebook.ErrLong)
+			wantOptimiseError(t, "", program, -1, rulebook.ErrPasses)
+			wantOptimiseError(t, "p", program, -1, rulebook.ErrForm)
 			made := testing.AllocsPerRun(5, func() {
 				rulebook.Check(program)
 				rulebook.Run(program, "", 0)
 				rulebook.Run(way, program, 0)
 				rulebook.Spare(program, 0, 0)
 				rulebook.Implied(program, 0)
+				rulebook.Optimise(program, program, 0)
 			})
 			if made != 0 {
 				t.Errorf("calls with %d bytes make %v things ahead of their answer", len(program), made)
@@ -93,6 +113,7 @@ func TestSameErrors(t *testing.T) {
 			wantRunError(t, program, "", item, e)
 			wantSpare(t, program, item, item, "", e)
 			wantImpliedError(t, program, item, e)
+			wantOptimiseError(t, program, "s", item, e)
 		}
 	}
 }

@@ -100,5 +100,18 @@ func Implied(program string, item int) (bool, Errno) {
 	return b.implied(item), OK
 }
 
-// Optimise makes passes over a program (P9 to P11).
-func Optimise(program string, passes string, budget int) (string, int, Errno) { return "", 0, OK }
+// Optimise makes passes over a program (P9, P10): u and l, which are named among them, make no change yet.
+func Optimise(program string, passes string, budget int) (string, int, Errno) {
+	b, e, _ := load(program)
+	if e != OK {
+		return "", 0, e
+	}
+	if !arePasses(passes) {
+		return "", 0, ErrPasses
+	}
+	if budget < 0 {
+		return "", 0, ErrArg
+	}
+	smaller, made := b.optimised(passes, budget)
+	return smaller.text(), made, OK
+}
