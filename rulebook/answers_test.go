@@ -57,7 +57,7 @@ func leavings(program string) string {
 // optimisings tells what Optimise answers to a program.
 func optimisings(program string) string {
 	out := ""
-	for _, passes := range []string{"", "s", "a", "r", "sarulsar", "sarulsars", "x"} {
+	for _, passes := range []string{"", "s", "a", "r", "u", "l", "sarulsar", "sarulsars", "x"} {
 		for _, budget := range []int{-1, 0, 1, 9} {
 			text, n, e := rulebook.Optimise(program, passes, budget)
 			out += fmt.Sprint(text, n, e)
@@ -140,7 +140,7 @@ func TestNothingIsKept(t *testing.T) {
 	programs := []string{
 		"", way, "?p.", "n(A):-v(A),!p(A).p(A):-e(A,B).?n.", "p(Z):-e(Z,Y).", "e(1).p(A):-e(A).", "e(1,2).p(A):-e(A,A).",
 		"p(X):-e(X,Z),e(X,Y),!f(X).p(A):-e(A,1).?p.", "p(A).", "p(1):-!p(1).", "p", "p(1).p(1,2).", strings.Repeat("?p.", 16), strings.Repeat("?p.", 17), ofLength(t, 600),
-		ofLength(t, 601),
+		ofLength(t, 601), fivefold, twice + step, "q(A):-p(A,2).p(A,1):-h(A).",
 	}
 	first := []string{}
 	for _, p := range programs {

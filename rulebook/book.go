@@ -47,13 +47,13 @@ func (b book) hasRule(number int) bool {
 
 // atoms lists the atoms of a rule from left to right. An output has none.
 func (it item) atoms() []atom {
-	atoms := []atom{}
 	if it.output {
-		return atoms
+		return nil
 	}
-	atoms = append(atoms, it.head)
-	for _, l := range it.body {
-		atoms = append(atoms, l.atom)
+	atoms := make([]atom, len(it.body)+1)
+	atoms[0] = it.head
+	for i, l := range it.body {
+		atoms[i+1] = l.atom
 	}
 	return atoms
 }

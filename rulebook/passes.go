@@ -27,7 +27,9 @@ func isPass(c byte) bool {
 func (b book) optimised(passes string, budget int) (book, int) {
 	made := 0
 	for i := 0; i < len(passes); i++ {
-		// Each change leaves out rules or a literal, and none adds any: so a pass comes to its end at every budget.
+		// A pass comes to its end at every budget. s, a and r leave out something and add nothing, and l has one rule fewer
+		// to change each time. u puts for a literal such as its predicate uses. That does not use itself, and behind no change
+		// does a predicate use more than ahead of it: so none leads back to the literal, and at last nothing is to be unfolded.
 		for made < budget {
 			next, ok := b.changed(passes[i])
 			if !ok {
@@ -40,8 +42,7 @@ func (b book) optimised(passes string, budget int) (book, int) {
 	return b, made
 }
 
-// changed is the program behind the first change of a pass. It tells false where there is none, as with the passes u and l,
-// which are not built yet.
+// changed is the program behind the first change of a pass. It tells false where there is none.
 func (b book) changed(pass byte) (book, bool) {
 	switch pass {
 	case 's':
@@ -50,22 +51,33 @@ func (b book) changed(pass byte) (book, bool) {
 		return b.withoutSpare()
 	case 'r':
 		return b.withoutImplied()
+	case 'u':
+		return b.withUnfolded()
+	case 'l':
+		return b.withLinear()
 	}
 	return book{}, false
 }
 
-// behind is the program that has these items in place of its own, as Print tells it. It tells false where that change is not
-// allowed.
+// behind is the program that has these items in place of its own. It tells false where that change is not allowed. The items
+// are made of what has been read: so the form of their text is right, if it keeps to the limits.
 func (b book) behind(items []item) (book, bool) {
 	changed := book{names: b.names, items: items}
+	if !changed.inLimits() || changed.lacksRules(b) {
+		return book{}, false
+	}
+	e, _ := changed.fault()
+	return changed, e == OK
+}
+
+// lacksRules tells whether a predicate that was ruled is named, but no longer ruled.
+func (b book) lacksRules(before book) bool {
 	for predicate := range b.names {
-		if b.ruled(predicate) && changed.named(predicate) && !changed.ruled(predicate) {
-			return book{}, false
+		if before.ruled(predicate) && !b.ruled(predicate) && b.named(predicate) {
+			return true
 		}
 	}
-	// Reading the text again holds it against all that Check asks, and leaves no name behind that no item has any more.
-	next, e, _ := load(changed.text())
-	return next, e == OK
+	return false
 }
 
 // named tells whether a predicate stands in a rule or in an output.

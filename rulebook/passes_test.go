@@ -78,6 +78,39 @@ func TestPassesSeveralTimes(t *testing.T) {
 	wantSteps(t, many, "rsr", printed, "p(A):-k(A,B,C),k(A,D,E)."+few, few)
 }
 
+// fivefold has a change of each pass.
+const fivefold = twice + "q(X):-t(X),p(X,Y)." + step + "t(Z):-e(Z,Y),e(Z,X).t(W):-e(W,W).z(1).?q."
+
+func TestAllPasses(t *testing.T) {
+	whole := wantedPrint(fivefold)
+	out := strings.NewReplacer("z(1).", "")
+	spared := strings.NewReplacer("t(A):-e(A,B),e(A,C).", "t(A):-e(A,B).")
+	implied := strings.NewReplacer("t(A):-e(A,A).", "")
+	straight := strings.NewReplacer(twice, once)
+	both := strings.NewReplacer("q(A):-t(A),p(A,B).", "q(A):-e(A,B),e(A,C),p(A,D).q(A):-e(A,A),p(A,B).")
+	wantSteps(t, fivefold, "s", whole, out.Replace(whole))
+	wantSteps(t, fivefold, "a", whole, spared.Replace(whole))
+	wantSteps(t, fivefold, "r", whole, implied.Replace(whole))
+	wantSteps(t, fivefold, "u", whole, both.Replace(whole))
+	wantSteps(t, fivefold, "l", whole, straight.Replace(whole))
+	wantSteps(t, fivefold, "ul", whole, both.Replace(whole), both.Replace(straight.Replace(whole)))
+	wantSteps(t, fivefold, "lu", whole, straight.Replace(whole), both.Replace(straight.Replace(whole)))
+	wantSteps(t, fivefold, "ullu", whole, both.Replace(whole), both.Replace(straight.Replace(whole)))
+	// Behind a, r and l there is one rule of t, with one literal.
+	small := straight.Replace(implied.Replace(spared.Replace(whole)))
+	wantSteps(t, fivefold, "arlus", whole, spared.Replace(whole), implied.Replace(spared.Replace(whole)), small,
+		strings.Replace(small, "q(A):-t(A),p(A,B).", "q(A):-e(A,B),p(A,C).", 1), once+"q(A):-e(A,B),p(A,C)."+step+"?q.")
+	// What one pass leaves, another may change, and so the same pass again.
+	again := "q(A):-p(A),a(A),b(A),c(A),c(B).p(A):-f(A),g(A).?q."
+	wantSteps(t, again, "u", again)
+	wantSteps(t, again, "uau", again, "q(A):-p(A),a(A),b(A),c(A).p(A):-f(A),g(A).?q.", "q(A):-f(A),g(A),a(A),b(A),c(A).p(A):-f(A),g(A).?q.")
+	wantSteps(t, again, "uauas", again, "q(A):-p(A),a(A),b(A),c(A).p(A):-f(A),g(A).?q.", "q(A):-f(A),g(A),a(A),b(A),c(A).p(A):-f(A),g(A).?q.", "q(A):-f(A),g(A),a(A),b(A),c(A).?q.")
+	more := twice + step + "p(A,B):-e(A,B),f(A).?p."
+	wantSteps(t, more, "l", more)
+	wantSteps(t, more, "lrl", more, twice+step+"?p.", once+step+"?p.")
+	wantSteps(t, "p(A,B):-q(A,B)."+twice+"q(A,B):-e(A,B).?p.", "uls", "p(A,B):-q(A,B)."+twice+"q(A,B):-e(A,B).?p.", step+twice+"q(A,B):-e(A,B).?p.", step+once+"q(A,B):-e(A,B).?p.", way)
+}
+
 func TestPassesWithoutChanges(t *testing.T) {
 	for _, passes := range []string{"", "s", "a", "r", "u", "l", "ul", "sarul", "sarulsar", "llllllll", "uuuuuuuu"} {
 		wantSteps(t, "", passes, "")

@@ -6,10 +6,15 @@ import "strconv"
 func (b book) text() string {
 	text := ""
 	for _, it := range b.items {
-		ordered := it.inOrder()
-		text += ordered.text(b.names)
+		text += b.itemText(it)
 	}
 	return text
+}
+
+// itemText tells an item with its variables named in order.
+func (b book) itemText(it item) string {
+	ordered := it.inOrder()
+	return ordered.text(b.names)
 }
 
 // inOrder is the item with other variables: the first that stands in it is 0, the next 1, and so on.
@@ -94,4 +99,49 @@ func (t term) text() string {
 		return string([]byte{byte('A' + t.value)})
 	}
 	return strconv.Itoa(t.value)
+}
+
+// inLimits tells whether a program has no more items, literals and bytes of text than may be. It is asked of each change that
+// is tried, so the text is measured, not made.
+func (b book) inLimits() bool {
+	if len(b.items) > maxItems {
+		return false
+	}
+	length := 0
+	for _, it := range b.items {
+		if len(it.body) > maxBody {
+			return false
+		}
+		length += it.length(b.names)
+	}
+	return length <= maxText
+}
+
+// length tells how many bytes the text of an item has.
+func (it item) length(names []string) int {
+	if it.output {
+		return len("?.") + len(names[it.head.predicate])
+	}
+	length := it.head.length(names) + len(".")
+	for i, l := range it.body {
+		length += len(",") + l.atom.length(names)
+		if i == 0 {
+			length += len(":-") - len(",")
+		}
+		if l.negated {
+			length += len("!")
+		}
+	}
+	return length
+}
+
+func (a atom) length(names []string) int {
+	length := len(names[a.predicate]) + len("()")
+	for i, t := range a.terms {
+		if i > 0 {
+			length += len(",")
+		}
+		length += len(t.text())
+	}
+	return length
 }

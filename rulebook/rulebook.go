@@ -100,7 +100,7 @@ func Implied(program string, item int) (bool, Errno) {
 	return b.implied(item), OK
 }
 
-// Optimise makes passes over a program (P9, P10): u and l, which are named among them, make no change yet.
+// Optimise makes passes over a program (P9 to P12).
 func Optimise(program string, passes string, budget int) (string, int, Errno) {
 	b, e, _ := load(program)
 	if e != OK {
